@@ -1,0 +1,1 @@
+"""Colonnade: questions answered on coded columns."""
