@@ -1,0 +1,90 @@
+"""The interface as DOC.md lists it, and the size and characters of the files."""
+
+import ast
+import pathlib
+import unittest
+
+PACKAGE = pathlib.Path(__file__).resolve().parent.parent / "colonnade"
+LINK = "parted own_count inner_count joined"
+FILTER = "columns_used leaves holds verdict"
+FUNCTIONS = {
+    "relations": "is_enough weakest strongest kept_by evidence",
+    "values": "is_name is_value domain_of next_value value_before near_values written",
+    "lanes": "lane_count width_of pack unpack lanes_below",
+    "links": "link_named",
+    "chains": "all_chains joined_cells cut_cells",
+    "cutting": "cheapest_chain block_price cheapest_cutting",
+    "comers": "spans withstands place_comer comers_placed breaking",
+    "mending": "leads mend_book",
+    "filters": "parts_of every_of",
+}
+CLASSES = {
+    "links": {"Link": LINK, "Runs": LINK, "Steps": LINK, "Base": LINK, "Pick": LINK},
+    "chains": {"Chain": "__init__ keeps write read codes_of sample below"},
+    "cutting": {"Cutting": "__init__"},
+    "books": {"Book": "__init__ keeps strays placed counted code_of value_of __contains__ bound __add__ base"},
+    "comers": {"Foe": "__init__ told"},
+    "mending": {"Mending": "__init__"},
+    "bridges": {"Bridge": "__init__ keeps __call__ back"},
+    "filters": {
+        "Filter": "__and__ __or__ __invert__", "Compare": FILTER, "Pair": FILTER, "Within": FILTER,
+        "Every": FILTER, "Some": FILTER, "Opposite": FILTER, "Fixed": FILTER,
+    },
+    "stretches": {
+        "Stretches": "__init__ __iter__ __contains__ __or__ __and__ __sub__ __xor__ covering total each_place"
+                     " rest within moved",
+    },
+}
+FILES = sorted(PACKAGE.rglob("*.py"))
+
+
+def tree_of(path):
+    return ast.parse(path.read_text(encoding="ascii"))
+
+
+class FormTest(unittest.TestCase):
+    def test_interface_is_defined_in_its_files(self):
+        for name in sorted(set(FUNCTIONS) | set(CLASSES)):
+            body = tree_of(PACKAGE / f"{name}.py").body
+            functions = [node.name for node in body if isinstance(node, ast.FunctionDef)]
+            for wanted in FUNCTIONS.get(name, "").split():
+                self.assertIn(wanted, functions, name)
+            classes = {node.name: node for node in body if isinstance(node, ast.ClassDef)}
+            for wanted, methods in CLASSES.get(name, {}).items():
+                self.assertIn(wanted, classes, name)
+                own = [node.name for node in classes[wanted].body if isinstance(node, ast.FunctionDef)]
+                for method in methods.split():
+                    self.assertIn(method, own, wanted)
+
+    def test_sizes(self):
+        for path in FILES:
+            lines = path.read_text(encoding="ascii").split("\n")
+            self.assertLessEqual(len(lines), 399, path.name)
+            self.assertLessEqual(max(map(len, lines)), 120, path.name)
+            for node in ast.walk(tree_of(path)):
+                if isinstance(node, ast.FunctionDef):
+                    self.assertLessEqual(node.end_lineno - node.lineno + 1, 40, (path.name, node.name))
+
+    def test_characters(self):
+        for path in FILES:
+            for letter in path.read_text(encoding="ascii"):
+                self.assertTrue(letter == "\n" or " " <= letter <= "~", path.name)
+            for node in ast.walk(tree_of(path)):
+                if isinstance(node, ast.Constant) and isinstance(node.value, str):
+                    self.assertNotIn("%", node.value, path.name)
+
+    def test_imports_are_of_the_package(self):
+        for path in FILES:
+            for node in ast.walk(tree_of(path)):
+                self.assertNotIsInstance(node, (ast.Import, ast.Global, ast.AnnAssign, ast.AsyncFunctionDef))
+                if isinstance(node, ast.ImportFrom):
+                    self.assertTrue(node.module.startswith("colonnade."), path.name)
+                    self.assertEqual(node.level, 0)
+
+    def test_package_holds_only_files_of_python(self):
+        others = [path.name for path in PACKAGE.iterdir() if path.suffix != ".py" and path.name != "__pycache__"]
+        self.assertEqual(others, [])
+
+
+if __name__ == "__main__":
+    unittest.main()
