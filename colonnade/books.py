@@ -48,7 +48,7 @@ def _newcomer_code(book, value):
     high = above[0] if above else book.room
     if high - low >= 2:
         return low + (high - low) // 2
-    return max([book.room, *[code + 1 for known, code in book.entries]])
+    return max([book.room] + [code + 1 for known, code in book.entries])
 
 
 class Book:

@@ -66,7 +66,7 @@ class Chain:
             width = width_of(numbers)
         except Unfit:
             raise Unfit(self.text) from None
-        return [*cells, width, *pack(numbers, width)]
+        return cells + [width] + pack(numbers, width)
 
     def read(self, cells, count):
         """Return the so many numbers with these cells."""

@@ -81,7 +81,7 @@ class Foe:
         low, high = _neighbours(self.row, self._room, at)
         if not is_integer_from(code, low + 1, high - 1):
             raise BadCode(code)
-        self.row = (*self.row[:at], code, *self.row[at:])
+        self.row = self.row[:at] + (code,) + self.row[at:]
         self.comers += 1
         if high - code < code - low:
             self._narrow = at + 1

@@ -20,7 +20,7 @@ def _check_fit(numbers, width):
 def width_of(numbers):
     """Return the least width whose lanes can hold the numbers."""
     _check_fit(numbers, GREATEST_WIDTH)
-    return max([1, *[number.bit_length() for number in numbers]])
+    return max([1] + [number.bit_length() for number in numbers])
 
 
 def _word_of(numbers, width):

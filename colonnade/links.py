@@ -102,7 +102,7 @@ class Steps(Link):
 
     def parted(self, numbers):
         """Return no own numbers, and the first number with the steps to the others."""
-        return ([], [numbers[0], *[other - one for one, other in zip(numbers, numbers[1:])]])
+        return ([], [numbers[0]] + [other - one for one, other in zip(numbers, numbers[1:])])
 
     def own_count(self, cells):
         """Return how many own numbers stand at the beginning of the cells."""

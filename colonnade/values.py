@@ -66,20 +66,11 @@ def value_before(value):
     return (front + LETTERS[LETTERS.index(value[-1]) - 1]).ljust(LONGEST, "z")
 
 
-def _values_behind(value, many):
+def _values_along(step, value, many):
+    """Return up to so many values that are found from a value, step by step."""
     found = []
     for _ in range(many):
-        value = next_value(value)
-        if value is None:
-            return found
-        found.append(value)
-    return found
-
-
-def _values_in_front(value, many):
-    found = []
-    for _ in range(many):
-        value = value_before(value)
+        value = step(value)
         if value is None:
             return found
         found.append(value)
@@ -90,10 +81,11 @@ def near_values(domain, values, many):
     """Return the values, and so many next to each of them on both sides, ascending."""
     if not values:
         first = 0 if domain == "number" else "a"
-        return [first, *_values_behind(first, many - 1)] if many else []
+        return [first] + _values_along(next_value, first, many - 1) if many else []
     near = {}
     for value in values:
-        for found in [value, *_values_behind(value, many), *_values_in_front(value, many)]:
+        behind = _values_along(next_value, value, many)
+        for found in _values_along(value_before, value, many) + [value] + behind:
             near[found] = True
     return sorted(near)
 
