@@ -64,6 +64,8 @@ class MakingTest(unittest.TestCase):
         self.assertEqual((book.strays, book.placed), ((0, 2, 4), (0, 4)))
         self.assertEqual(book.keeps, "same")
         self.assertEqual((Book("number", 5).strays, Book("number", 5).placed), ((), ()))
+        book = Book("number", 5, [(1, 5), (2, 4)])
+        self.assertEqual((book.strays, book.placed), ((1,), (4,)))
 
     def test_keeps(self):
         cases = (
@@ -97,6 +99,8 @@ class AskingTest(unittest.TestCase):
 
     def test_value_of(self):
         self.assertEqual([self.book.value_of(code) for code in (2, 4, 11, 12)], [10, 20, 1, 30])
+        self.assertEqual(Book.counted(7, 9, 5).value_of(0), 7)
+        self.assertEqual(Book("word", 5, [("b", 9999999)]).value_of(9999999), "b")
         for code in (0, 1, 3, -1, 99):
             check_raises(self, errors.NoCode, {"code": code}, self.book.value_of, code)
         check_raises(self, errors.NoCode, {"code": True}, Book.counted(0, 5, 9).value_of, True)

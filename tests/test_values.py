@@ -40,7 +40,7 @@ class ValuesTest(unittest.TestCase):
             (-999999999, -999999998), (-1, 0), (999999998, 999999999),
             ("a", "aa"), ("az", "aza"), ("abcdefg", "abcdefga"), ("abcdefgh", "abcdefgi"),
             ("abcdefzz", "abcdeg"), ("azzzzzzz", "b"), ("zzzzzzzy", "zzzzzzzz"), ("zzzzzzz", "zzzzzzza"),
-            ("yzzzzzzz", "z"), ("aaaaaaaz", "aaaaaab"),
+            ("yzzzzzzz", "z"), ("aaaaaaaz", "aaaaaab"), ("aaaaaaax", "aaaaaaay"), ("yyyyyyyy", "yyyyyyyz"),
         )
         for one, other in ascending:
             self.assertEqual(next_value(one), other)
