@@ -104,6 +104,15 @@ class WritingTest(unittest.TestCase):
                     continue
                 self.assertEqual(Chain(text).read(cells, 999), numbers)
 
+    def test_somewhat_more_numbers_raise_no_error(self):
+        numbers = [k // 3 for k in range(1001)]
+        for text in TEXTS:
+            try:
+                cells = Chain(text).write(numbers)
+            except Unfit:
+                continue
+            self.assertEqual(Chain(text).read(cells, 1001), numbers)
+
 
 class ReadingTest(unittest.TestCase):
     def check_read(self, chain, cells, count):
