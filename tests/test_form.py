@@ -1,6 +1,7 @@
 """The interface as DOC.md lists it, and the size and characters of the files."""
 
 import ast
+import builtins
 import pathlib
 import unittest
 
@@ -17,6 +18,17 @@ FUNCTIONS = {
     "comers": "spans withstands place_comer comers_placed breaking",
     "mending": "leads mend_book",
     "filters": "parts_of every_of",
+    "boxes": "hull in_box fewest_covers bars_of",
+    "translating": "on_codes",
+    "reading": "split_words read_filter read_question",
+    "plainly": "plain_answer chosen_rows",
+    "printing": "answer_lines",
+    "codedly": "stage_after coded_answer",
+    "patterns": "order_patterns test_weight test_need holds_always numbers_told",
+    "needs": "joint_needs",
+    "slips": "slip_for",
+    "coded": "make_scene",
+    "plans": "plain_plan",
 }
 CLASSES = {
     "links": {"Link": LINK, "Runs": LINK, "Steps": LINK, "Base": LINK, "Pick": LINK},
@@ -34,8 +46,22 @@ CLASSES = {
         "Stretches": "__init__ __iter__ __contains__ __or__ __and__ __sub__ __xor__ covering total each_place"
                      " rest within moved",
     },
+    "shapes": {"Shapes": "__init__ columns_of table_of domain_of_column book_of domain_of_book columns_with"},
+    "questions": {"Question": "__init__ grouped __str__ columns_named books_named scan_tests cross_tests with_tests"},
+    "needs": {"Needs": "__init__ need_at overall latest_openings in_time all_enough places_need lines"},
+    "slips": {"Slip": "__init__"},
+    "coded": {
+        "CodedColumn": "__init__ numbers", "Block": "__init__ names column_named bounds",
+        "CodedTable": "__init__ numbers_of",
+        "Scene": "__init__ book_named table_named relations rows_of all_rows",
+    },
+    "plans": {"Plan": "__init__ lines"},
 }
 FILES = sorted(PACKAGE.rglob("*.py"))
+USED_BUILTINS = (
+    "len range enumerate zip min max sum abs sorted reversed int str bool list tuple dict set isinstance ord repr any"
+    " all divmod iter next map super property staticmethod classmethod ValueError KeyError NotImplemented"
+).split()
 
 
 def tree_of(path):
@@ -80,6 +106,45 @@ class FormTest(unittest.TestCase):
                 if isinstance(node, ast.ImportFrom):
                     self.assertTrue(node.module.startswith("colonnade."), path.name)
                     self.assertEqual(node.level, 0)
+
+    def test_no_two_files_import_from_each_other(self):
+        needed = {path.stem: [node.module.split(".")[1] for node in ast.walk(tree_of(path))
+                              if isinstance(node, ast.ImportFrom)] for path in FILES}
+        behind = {}
+        while len(behind) < len(needed):
+            free = [name for name in needed if name not in behind and all(other in behind for other in needed[name])]
+            self.assertNotEqual(free, [], "a circle of imports")
+            behind.update(dict.fromkeys(free))
+
+    def test_names(self):
+        for path in FILES:
+            tree = tree_of(path)
+            imported = {name.name for node in ast.walk(tree) if isinstance(node, ast.ImportFrom) for name in node.names}
+            top = {node.name for node in tree.body if isinstance(node, (ast.FunctionDef, ast.ClassDef))}
+            bound = {node.arg for node in ast.walk(tree) if isinstance(node, ast.arg)}
+            read = set()
+            for node in ast.walk(tree):
+                if isinstance(node, ast.Name):
+                    (read if isinstance(node.ctx, ast.Load) else bound).add(node.id)
+            self.assertEqual(bound & (imported | top | set(dir(builtins))), set(), path.name)
+            self.assertEqual(top & set(dir(builtins)), set(), path.name)
+            self.assertEqual(imported - read, set(), path.name)
+            self.assertEqual((read & set(dir(builtins))) - set(USED_BUILTINS), set(), path.name)
+
+    def test_no_name_is_a_method_and_an_attribute(self):
+        methods, attributes = set(), set()
+        for path in FILES:
+            for node in ast.walk(tree_of(path)):
+                if isinstance(node, ast.ClassDef):
+                    methods |= {part.name for part in node.body if isinstance(part, ast.FunctionDef)}
+                if isinstance(node, ast.Attribute) and isinstance(node.ctx, ast.Store):
+                    attributes.add(node.attr)
+        self.assertEqual(methods & attributes, set())
+
+    def test_no_division_and_no_literal_set(self):
+        for path in FILES:
+            for node in ast.walk(tree_of(path)):
+                self.assertNotIsInstance(node, (ast.Div, ast.Mod, ast.Set), path.name)
 
     def test_package_holds_only_files_of_python(self):
         others = [path.name for path in PACKAGE.iterdir() if path.suffix != ".py" and path.name != "__pycache__"]
