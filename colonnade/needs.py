@@ -109,7 +109,7 @@ class Needs:
     def places_need(self):
         """What the question needs of the order of the rows."""
         question = self.question
-        keys = [(what, column) for what, column, down in question.sorts]
+        keys = _key_pairs(question)
         if all([pair in keys for pair in question.tells]):
             return "none"
         if question.grouped and all([("column", column) in keys for column in question.groups]):

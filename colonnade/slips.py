@@ -88,10 +88,10 @@ def _clash_book(shapes, book, values, pattern):
 
 
 def _other_book(test, shapes, book, row):
-    """Return a book that keeps order, with the values of a row."""
+    """Return a book with the values of a row and their neighbours that keeps order, and no more."""
     values = [row[column] for column in columns_with_book(test, shapes, book)]
-    entries = [(value, code) for code, value in enumerate(sorted(set(values)))]
-    return Book(shapes.domain_of_book(book), len(entries), entries)
+    near = near_values(shapes.domain_of_book(book), values, 1)
+    return Book(shapes.domain_of_book(book), 2 * len(near), [(value, 2 * rank) for rank, value in enumerate(near)])
 
 
 def _is_wrong(test, shapes, book, row, codes):

@@ -141,6 +141,14 @@ class NeedTest(unittest.TestCase):
             self.assertEqual(need(text), wanted, text)
         self.assertEqual(need("a in (1, 2, 3, 4, 5) and d < 5", "h"), "none")
 
+    def test_each_sign_above_the_weight(self):
+        for sign in ("<", "<=", ">", ">="):
+            for leaf in (f"a {sign} 1", f"a {sign} c", f"c {sign} a", f"a {sign} a"):
+                self.assertEqual(need(f"a in (1, 2, 3, 4, 5) or not {leaf}"), "order")
+            self.assertEqual(need(f"a in (1, 2, 3, 4, 5) or d {sign} e or g {sign} 1"), "same")
+        for sign in ("=", "<>"):
+            self.assertEqual(need(f"a in (1, 2, 3, 4, 5) or a {sign} 1 or a {sign} c or d < 1"), "same")
+
     def test_by_maps_of_values(self):
         dice = random.Random(10)
         found = {"same": 0, "order": 0}

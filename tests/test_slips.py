@@ -53,7 +53,7 @@ class SlipTest(unittest.TestCase):
         for name in slip.books:
             self.assertEqual(slip.books[name].domain, asked.shapes.domain_of_book(name))
             if name != book:
-                self.assertTrue(is_enough(slip.books[name].keeps, "order"))
+                self.assertEqual(slip.books[name].keeps, "order")
         self.assertEqual(slip.openings, {name: stage_after(stage) if name == book else "tell"
                                          for name in asked.books_named()})
         self.assertLessEqual(sum([len(rows) for rows in slip.rows.values()]), 3)
