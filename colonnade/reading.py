@@ -9,7 +9,8 @@ FIGURES = "0123456789"
 # Of two signs that fit, the longer one stands first.
 SIGNS = ("<>", "<=", ">=", "=", "<", ">")
 WHATS = ("distinct", "least", "greatest", "sum")
-LONGEST_NUMBER = len("-999999999")
+# Nine figures and a minus sign: no value, and no number behind `first` or `at`, is longer.
+LONGEST_NUMBER = 10
 GREATEST_FIRST = 999
 MOST_CHOICES = 8
 

@@ -64,6 +64,75 @@ USED_BUILTINS = (
 ).split()
 
 
+OPERATORS = (ast.Add, ast.Sub, ast.Mult, ast.FloorDiv, ast.Mod, ast.Pow, ast.LShift, ast.RShift, ast.BitAnd, ast.BitOr,
+             ast.BitXor)
+
+
+def is_plain(node, names, nested=False):
+    """Tell whether an expression is a plain value, made of literals and of these names."""
+    if isinstance(node, ast.Constant):
+        return isinstance(node.value, (bool, int, str, bytes)) or node.value is None
+    if isinstance(node, ast.Name):
+        return node.id in names
+    if isinstance(node, ast.UnaryOp):
+        return isinstance(node.op, (ast.USub, ast.Invert)) and is_plain(node.operand, names)
+    if isinstance(node, ast.BinOp):
+        return isinstance(node.op, OPERATORS) and is_plain(node.left, names) and is_plain(node.right, names)
+    if isinstance(node, ast.Tuple):
+        return all(is_plain(part, names, True) for part in node.elts)
+    if isinstance(node, (ast.List, ast.Dict)) and not nested:
+        parts = node.elts if isinstance(node, ast.List) else node.keys + node.values
+        return all(part is not None and is_plain(part, names, True) for part in parts)
+    return False
+
+
+def has_plain_defaults(function, names):
+    told = function.args.defaults + [node for node in function.args.kw_defaults if node is not None]
+    return not function.decorator_list and all(is_plain(node, names, True) for node in told)
+
+
+def is_docstring(node):
+    return isinstance(node, ast.Expr) and isinstance(node.value, ast.Constant) and isinstance(node.value.value, str)
+
+
+def unplain_parts(body, names):
+    """Return the lines of a class that are no docstring, method or plain class value."""
+    found = []
+    for node in body:
+        if isinstance(node, ast.Assign):
+            good = len(node.targets) == 1 and isinstance(node.targets[0], ast.Name) and is_plain(node.value, (), True)
+        elif isinstance(node, ast.FunctionDef):
+            told = node.args.defaults + [part for part in node.args.kw_defaults if part is not None]
+            good = all(is_plain(part, names, True) for part in told)
+        else:
+            good = is_docstring(node)
+        if not good:
+            found.append(node.lineno)
+    return found
+
+
+def unplain_rows(tree):
+    """Return the lines of a module that rule L3 does not let stand at its level."""
+    found, names = [], []
+    for at, node in enumerate(tree.body):
+        good = at == 0 and is_docstring(node)
+        if isinstance(node, ast.ImportFrom):
+            names.extend([alias.name for alias in node.names])
+            good = True
+        elif isinstance(node, ast.FunctionDef):
+            good = has_plain_defaults(node, names)
+            names.append(node.name)
+        elif isinstance(node, ast.ClassDef):
+            found.extend(unplain_parts(node.body, names))
+            good = not node.decorator_list
+        elif isinstance(node, ast.Assign) and len(node.targets) == 1 and isinstance(node.targets[0], ast.Name):
+            good = is_plain(node.value, names) and node.targets[0].id not in names
+            names.append(node.targets[0].id)
+        if not good:
+            found.append(node.lineno)
+    return found
+
+
 def tree_of(path):
     return ast.parse(path.read_text(encoding="ascii"))
 
@@ -145,6 +214,25 @@ class FormTest(unittest.TestCase):
         for path in FILES:
             for node in ast.walk(tree_of(path)):
                 self.assertNotIsInstance(node, (ast.Div, ast.Mod, ast.Set), path.name)
+
+    def test_module_level_holds_plain_values(self):
+        for path in FILES:
+            self.assertEqual(unplain_rows(tree_of(path)), [], path.name)
+
+    def test_what_is_not_plain_is_found(self):
+        for row in ("X = len('abc')", "X = [1, len('abc')]", "X = {'a': (1, int('2'))}", "X = -abs(3)", "X = 'a'.upper()",
+                    "X = (1).real", "X = [1][0]", "X = [at for at in (1, 2)]", "X = 1 if 2 else 3", "X = lambda: 1",
+                    "X = {1, 2}", "X = Y", "X = 1 < 2", "X = [[1]]", "X, Y = 1, 2", "X = Y = 1", "X += 1", "print(1)",
+                    "if True:\n    X = 1", "for x in (1, 2):\n    pass", "X = f'{1}'", "X = not 1", "X: int = 1",
+                    "class A:\n    X = len('a')", "class A:\n    X = 1\n    print(X)", "class A:\n    x = [1]",
+                    "def f():\n    pass\nX = f()", "def f(x=len('a')):\n    pass", "def f(*, x=[]):\n    pass",
+                    "class A:\n    def f(self, x={}):\n        pass", "X = 1\nX = 2", "def f():\n    pass\nX = {'f': f()}"):
+            self.assertEqual(len(unplain_rows(ast.parse(row))), 1, row)
+        for row in ("X = -3", "X = 'a' + 'b'", "X = 2 ** 29 - 1", "X = (1, ('a', None), True)", "X = {'a': (1, 2)}",
+                    "X = 5\nY = X * 2\nZ = [X, Y]", "def f(x=-1, *, y=(1, 'a')):\n    return len(x)\nX = {'f': f}",
+                    "class A:\n    \"\"\"An A.\"\"\"\n    X = -1\n    Y = ('a', 1)\n    def f(self, x=None):\n        pass",
+                    "from colonnade.values import LETTERS\nX = LETTERS + 'b'", "\"\"\"Words.\"\"\"", "X = b'a'", "X = ~1"):
+            self.assertEqual(unplain_rows(ast.parse(row)), [], row)
 
     def test_package_holds_only_files_of_python(self):
         others = [path.name for path in PACKAGE.iterdir() if path.suffix != ".py" and path.name != "__pycache__"]

@@ -99,6 +99,23 @@ class FilterTest(unittest.TestCase):
             check_raises(self, Unread, {"at": 2}, read_filter, f"a = {word}")
             check_raises(self, Unread, {"at": 5}, read_filter, f"a in (1, {word})")
 
+    def test_numbers_of_nine_figures_and_of_more(self):
+        front = "from sales where price < {} tell many"
+        for many in range(1, 10):
+            for sign in ("", "-"):
+                number = int(sign + "987654321"[:many])
+                self.assertEqual(read_filter(f"a = {number}").value, number)
+                self.assertEqual(read_filter(f"a in (1, {number})").choices, tuple(sorted([1, number])))
+                self.assertEqual(read_question(front.format(number), SHAPES).tests[0].value, number)
+        for many in (10, 11, 12, 20, 300, 5000):
+            for word in ("9" * many, "1" + "0" * (many - 1), "-" + "9" * many, "-1" + "0" * (many - 1)):
+                self.assertEqual(split_words(f"a={word}"), ["a", "=", word])
+                check_raises(self, Unread, {"at": 2}, read_filter, f"a = {word}")
+                check_raises(self, Unread, {"at": 5}, read_filter, f"a in (1, {word})")
+                check_raises(self, Unread, {"at": 5}, read_question, front.format(word), SHAPES)
+                for part in ("first", "at"):
+                    check_raises(self, Unread, {"at": 5}, read_question, f"from sales tell many {part} {word}", SHAPES)
+
     def test_values_of_another_domain(self):
         check_raises(self, Unread, {"at": 5}, read_filter, "a in (1, 'b')")
         check_raises(self, Unread, {"at": 7}, read_filter, "a in ('b', 'c', 1, -0)")
