@@ -1,7 +1,11 @@
 """Shapes, rows, books, tests and questions for other tests; all random choices come from seeds."""
 
 from colonnade.books import Book
+from colonnade.chains import all_chains
+from colonnade.coded import make_scene
+from colonnade.codedly import STAGES
 from colonnade.filters import Compare, Every, Opposite, Pair, Some, Within
+from colonnade.needs import Needs
 from colonnade.questions import Question
 from colonnade.relations import RELATIONS
 from colonnade.shapes import Shapes
@@ -13,6 +17,7 @@ SHAPES = Shapes([
                ("floor", "number", "")]),
     ("staff", [("name", "word", "people"), ("home", "word", "places"), ("pay", "number", "")]),
 ])
+CHAINS = tuple(all_chains())
 NUMBERS = (-3, 0, 1, 2, 5, 7)
 WORDS = ("a", "bonn", "oslo", "paris", "rome")
 SIGNS = ("=", "<>", "<", "<=", ">", ">=")
@@ -128,3 +133,24 @@ def question_for(dice, shapes=SHAPES, joined=2):
              for _ in range(dice.randint(0, 2))]
     most = dice.choice((None, None, 1, 2))
     return Question(shapes, tables, joins_for(dice, shapes, tables), tests, groups, tells, sorts, most, None)
+
+
+def scene_for(dice, shapes=SHAPES, relations=None, most=4):
+    """Return a scene of random rows, in random blocks and chains, some of them not seen."""
+    rows = rows_for(dice, shapes, most)
+    columns = [column for table in shapes.tables for column in shapes.columns_of(table)]
+    chains = {column: dice.choice(CHAINS) for column in columns}
+    unseen = {table: [at for at in range(len(own)) if dice.randint(0, 3) == 0] for table, own in rows.items()}
+    books = books_for(dice, shapes, relations)
+    return make_scene(shapes, books, rows, size=dice.randint(1, 4), chains=chains, unseen=unseen)
+
+
+def openings_for(dice, question):
+    """Return random openings, in time or not."""
+    return {book: dice.choice(STAGES) for book in question.books_named()}
+
+
+def openings_in_time(dice, question, kept):
+    """Return random openings that are in time for the told relations."""
+    latest = Needs(question).latest_openings(kept)
+    return {book: STAGES[dice.randint(0, STAGES.index(stage))] for book, stage in latest.items()}
