@@ -2,7 +2,12 @@
 
 from colonnade.books import Book
 from colonnade.chains import Chain
+from colonnade.deeds import perform_all
+from colonnade.errors import Unfit
 from colonnade.shapes import Shapes
+from colonnade.stores import Store
+
+from tests.asking import CHAINS
 
 SHOP = Shapes([
     ("sales", [("city", "word", "places"), ("price", "number", "money"), ("many", "number", "")]),
@@ -136,3 +141,80 @@ def whole_rows(store, table):
             numbers = Chain(chain).read(cells, many)
             columns[column] += [store.book_named(book).value_of(code) for code in numbers] if book else numbers
     return list(zip(*columns.values()))
+
+
+def other_book_for(dice, book):
+    """Return a book with the same values and other codes, with or without strays."""
+    values = [value for value, code in book.entries]
+    room = dice.randint(1, 30)
+    codes = dice.sample(range(40), len(values))
+    placed = sorted(code for code in codes if code < room)
+    slots = sorted(dice.sample(range(len(values)), len(placed)))
+    free = [code for code in codes if code >= room]
+    told = {slot: code for slot, code in zip(slots, placed)}
+    return Book(book.domain, room, [(value, told[at] if at in told else free.pop()) for at, value in enumerate(values)])
+
+
+def sizes_for(dice, many):
+    """Return random sizes of blocks of so many places."""
+    sizes = []
+    while sum(sizes) < many:
+        sizes.append(dice.randint(1, many - sum(sizes)))
+    return sizes
+
+
+def fits(chain, numbers):
+    try:
+        Chain(chain).write(numbers)
+    except Unfit:
+        return False
+    return True
+
+
+def moments_for(dice, store):
+    """Return random moments that stay kept."""
+    return sorted({*dice.sample(store.kept, dice.randint(0, len(store.kept))), store.moment})
+
+
+def deed_for(dice, store):
+    """Return the name of a deed and arguments, with which the store can do it."""
+    table = dice.choice(store.shapes.tables)
+    columns = store.shapes.columns_of(table)
+    many = sum(store.sizes(table))
+    deed = dice.choice(("recode", "cut", "rebook", "arrange", "sort", "sort codes", "gather", "let go"))
+    if deed == "recode" and store.sizes(table):
+        at, column = dice.randint(0, len(store.sizes(table)) - 1), dice.choice(columns)
+        chain, cells = store.layout(table)[at][column]
+        numbers = Chain(chain).read(cells, store.sizes(table)[at])
+        return (deed, table, at, column, dice.choice([chain for chain in CHAINS if fits(chain, numbers)]))
+    if deed == "rebook":
+        book = dice.choice(store.shapes.books)
+        return (deed, book, other_book_for(dice, store.book_named(book)))
+    if deed == "arrange":
+        return (deed, table, dice.sample(range(many), many))
+    if deed in ("sort", "sort codes"):
+        return (deed, table, *dice.sample(columns, dice.randint(0, len(columns))))
+    if deed == "gather":
+        return (deed, table, dice.randint(1, 4))
+    if deed == "let go":
+        return (deed, moments_for(dice, store))
+    told = {column: dice.choice(CHAINS) for column in columns if dice.randint(0, 1)}
+    return ("cut", table, sizes_for(dice, many), told)
+
+
+def step_for(dice, store):
+    """Return a random step of a history, as `perform_all` takes it."""
+    kind = dice.randint(0, 5)
+    if kind < 2 or not store.moment:
+        return ("commit", *commit_for(dice, store))
+    if kind == 2:
+        return ("restore", dice.choice(store.kept))
+    return deed_for(dice, store)
+
+
+def store_behind(dice, steps, shapes=SHOP):
+    """Return a store behind a random history of so many steps."""
+    store = Store(shapes, shop_books(dice))
+    for _ in range(steps):
+        perform_all(store, [step_for(dice, store)])
+    return store

@@ -33,6 +33,11 @@ FUNCTIONS = {
     "rules": "apply_rule follow best_rules best_plan",
     "moments": "seen_at ever_seen gone_toggles",
     "merging": "runs_of merge_order rounds_of",
+    "deeds": "recode cut rebook arrange sort_table sort_by_codes gather let_go perform perform_all",
+    "records": "read_records found_records last_found",
+    "recovery": "recover",
+    "papers": "sure_verdict answer_paper paper_needs carried_paper found_paper",
+    "checker": "accepts",
 }
 CLASSES = {
     "links": {"Link": LINK, "Runs": LINK, "Steps": LINK, "Base": LINK, "Pick": LINK},
@@ -64,6 +69,13 @@ CLASSES = {
     "stores": {
         "Store": "__init__ commit restore scene_at rows_of places_of layout sizes toggles book_named weights plan_for"
                  " ask trial",
+    },
+    "disks": {"Disk": "__init__ put sync strike cut read length synced all_files limit set_limit fall"},
+    "records": {"Record": "__init__ written_cells"},
+    "houses": {"House": "__init__ commit restore perform sync strike sure written possible unsure files_now"},
+    "checker": {
+        "Claim": "accepts", "AnswerClaim": "__init__ accepts", "PlanClaim": "__init__ accepts",
+        "MendingClaim": "__init__ accepts", "CuttingClaim": "__init__ accepts", "FoundClaim": "__init__ accepts",
     },
     "carries": {"Carry": "__init__ new_place new_code keeps_places keeps_codes __add__ carried_rows"},
 }
