@@ -63,7 +63,7 @@ def _take_order(store, table, order, sizes, chains):
     places = [None] * store.many_places(table)
     for new, old in enumerate(order):
         places[old] = new
-    numbers = {column: [own[old] for old in order] for column, own in _all_numbers(store, table).items()}
+    numbers = {column: [own[place] for place in order] for column, own in _all_numbers(store, table).items()}
     _set_blocks(store, table, _cut_blocks(numbers, sizes, chains))
     store.toggled = {**store.toggled, table: _moved_toggles(store.toggled[table], places)}
     return places

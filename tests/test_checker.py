@@ -42,6 +42,7 @@ class ClaimTest(unittest.TestCase):
         for claim in (AnswerClaim, PlanClaim, MendingClaim, CuttingClaim, FoundClaim):
             self.assertTrue(issubclass(claim, Claim))
             self.assertIn("accepts", vars(claim))
+        self.assertIs(accepts(Claim(), []), False)
 
 
 def variants(value):
@@ -124,6 +125,14 @@ class AnswerClaimTest(ClaimTest):
             {"t": (*self.covers, (5, 6, "always", self.covers[0][3]))}, {"t": (*self.covers, (5, 5, "always", self.covers[0][3]))},
         ):
             self.refuses(self.claim, paper)
+
+    def test_places_beside_a_cover_that_would_suit_them(self):
+        question = read_question("from t where c < 10 tell c", PEOPLE)
+        claim = AnswerClaim(question, people(), [(1,), (9,), (2,), (1,), (5,)])
+        for covers, good in (([(0, 5)], True), ([(0, 2), (2, 5)], True), ([(1, 5)], False), ([(0, 4)], False),
+                             ([(0, 2), (3, 5)], False), ([(0, 1), (2, 3), (3, 5)], False)):
+            paper = {"t": tuple([(start, end, "always", {"c": (0, 9)}) for start, end in covers])}
+            (self.takes if good else self.refuses)(claim, paper)
 
     def test_boxes(self):
         good = self.covers[0][3]
@@ -320,8 +329,25 @@ class MendingClaimTest(ClaimTest):
             Book("word", 8, [*entries[:-1], ("e", entries[-1][1])]), Book("word", 8, [*entries, ("e", 7)]),
             Book("number", 8, [(1, 1), (2, 2), (3, 3), (4, 5)]), Book("word", 8, [*entries[:-1], (entries[-1][0], 8)]),
             self.book, Book("word", 8, [(value, at + 2) for at, (value, code) in enumerate(entries)]),
+            # A stray that weighs nothing.
+            Book("word", 8, [(value, 9 if value == "c" else code) for value, code in entries]),
         ):
             self.refuses(self.claim, self.paper(book=book))
+        claim = MendingClaim(Book("word", 5), 3, {}, 0)
+        self.takes(claim, Mending(Book("word", 3), 0, (), ()))
+        self.refuses(claim, Mending(Book("number", 3), 0, (), ()))
+        self.refuses(claim, Mending(None, 0, (), ()))
+
+    def test_true_is_no_integer(self):
+        book = Book("number", 1, [(1, 1), (2, 0)])
+        mending = mend_book(book, 2, {1: 1, 2: 1})
+        self.assertEqual(mending.cost, 2)
+        book = Book("number", 1, [(1, 3), (2, 2)])
+        mending = mend_book(book, 4, {1: 1, 2: 1})
+        claim = MendingClaim(book, 4, {1: 1, 2: 1}, 1)
+        self.takes(claim, mending)
+        self.refuses(claim, Mending(mending.book, True, mending.kept, mending.chains))
+        self.refuses(claim, Mending(mending.book, 1, mending.kept, ((True, (1, 2)),)))
 
     def test_wrong_costs(self):
         for cost in (self.mending.cost - 1, self.mending.cost + 1, 0, -1, str(self.mending.cost), True, 10 ** 30, ""):
@@ -349,6 +375,9 @@ class MendingClaimTest(ClaimTest):
             (*chains[:-1], (chains[-1][0], "ab")),
         ):
             self.refuses(self.claim, self.paper(chains=wrong))
+        # Values with equal leads can keep their codes together.
+        self.refuses(self.claim, self.paper(chains=((2, ("a", "c")), (3, ("b", "d")), (1, ("d",)))))
+        self.takes(self.claim, self.paper(chains=((2, ("a",)), (3, ("b", "d")), (1, ("d",)))))
         # The same weights in other pieces, or in chains that leave out what weighs nothing, show it too.
         parts = tuple([(1, values) for weight, values in chains for _ in range(weight)])
         self.takes(self.claim, self.paper(chains=parts))
@@ -361,7 +390,8 @@ class MendingClaimTest(ClaimTest):
         claim = MendingClaim(book, 20, {1: 1, 2: 1, 3: 1, 4: 1}, 1)
         self.takes(claim, mending)
         for chains in (((1, (1, 2)), (1, (3,)), (1, (4,))), ((1, (1,)), (1, (2, 4)), (1, (3,))), ((1, (1,)), (1, (3, 2)), (1, (4,))),
-                       ((1, (1,)), (1, (2, 3, 4)), (1, (4,)))):
+                       ((1, (1,)), (1, (2, 3, 4)), (1, (4,))), ((1, (4, 1)), (1, (2,)), (1, (3,))),
+                       ((1, (True,)), (1, (2, 3)), (1, (4,)))):
             self.refuses(claim, Mending(mending.book, 1, mending.kept, chains))
         self.takes(claim, Mending(mending.book, 1, (), ((1, (1,)), (1, (2, 3)), (1, (4,)))))
         # Entries that are not fit are in no chain.
@@ -370,6 +400,14 @@ class MendingClaimTest(ClaimTest):
         self.refuses(small, Mending(Book("number", 4, [(1, 0), (2, 1), (3, 2), (4, 3)]), 3, (), ((1, (1,)),)))
         self.refuses(MendingClaim(book, 4, {1: 1, 2: 1, 3: 1, 4: 1}, 3),
                      Mending(Book("number", 4, [(1, 0), (2, 1), (3, 2), (4, 3)]), 3, (), ((1, (1,)),)))
+
+    def test_values_without_a_weight(self):
+        claim = MendingClaim(self.book, 8, {}, 0)
+        self.takes(claim, mend_book(self.book, 8, {}))
+        shifted = Book("word", 8, [("a", 0), ("b", 2), ("c", 4), ("d", 6)])
+        self.takes(claim, Mending(shifted, 0, (), ()))
+        self.refuses(claim, Mending(shifted, 1, (), ()))
+        self.refuses(claim, Mending(shifted, 0, (), ((1, ("a",)),)))
 
     def test_cover_weights(self):
         book = Book("number", 1, [(1, 3), (2, 2), (3, 8)])
@@ -471,6 +509,12 @@ class CuttingClaimTest(ClaimTest):
                              ((0, 4, 5, 4), False), ((0, 0, 4, 4), True), ((0, 0, 5, 4), False)):
             paper = Cutting([3], 4, prices)
             (self.takes if good else self.refuses)(claim, paper)
+
+    def test_true_is_no_integer(self):
+        claim = CuttingClaim([[5]], ["plain"], 1, 0, 1)
+        self.takes(claim, Cutting([1], 1, [0, 1]))
+        for ends, price, prices in (([True], 1, [0, 1]), ([1], True, [0, 1]), ([1], 1, [False, 1]), ([1], 1, [0, True])):
+            self.refuses(claim, Cutting(ends, price, prices))
 
     def test_most_and_head_and_chains_count(self):
         cutting = self.cutting

@@ -279,6 +279,8 @@ class SortTest(DeedTest):
             self.refuse(store, NoTable, {"name": "city"}, call, "city", "x")
             self.refuse(store, NoColumn, {"name": "town"}, call, "sales", "city", "town", "x")
             self.refuse(store, NoColumn, {"name": ""}, call, "sales", "")
+            self.refuse(store, NoTable, {"name": "city"}, call, "city")
+            self.refuse(Store(SHOP, shop_books()), NoColumn, {"name": "town"}, call, "sales", "many", "town", "rent")
 
 
 class GatherTest(DeedTest):

@@ -396,6 +396,17 @@ class SureTest(unittest.TestCase):
         house.sync("t.a.0")
         self.assertEqual((house.sure(), house.possible(), house.unsure()), (2, [2], []))
 
+    def test_new_files_of_a_single_cell(self):
+        house = House(TINY, {})
+        house.commit({"t": [(5,)]})
+        house.commit(None, {"t": [0]})
+        house.perform("let go", [2])
+        house.perform("gather", "t", 1)
+        self.assertEqual([house.disk.read(name) for name in house.files_now()], [["toggles"], ["column"]])
+        house.sync("log")
+        self.assertEqual((house.possible(), house.unsure()), ([3, 4], ["t.a.2"]))
+        self.assertEqual(possible_by_falls(house.disk), [3, 4])
+
     def test_results_are_new(self):
         house = House(TINY, {})
         house.commit({"t": [(5,)]})

@@ -199,6 +199,17 @@ class RecoverTest(unittest.TestCase):
         disk.cut("log", disk.length("log") - 1)
         check_raises(self, Lost, {}, recover, disk, SHOP)
 
+    def test_several_stretches_at_one_moment(self):
+        house = House(LITTLE, shop_books())
+        house.commit({"sales": [(number,) for number in (1, 2, 3, 4, 5, 6, 7)]})
+        house.commit(None, {"sales": [0, 2, 3, 6]})
+        house.commit({"sales": [(8,), (9,)]}, {"sales": [4]})
+        house.restore(1)
+        self.assertEqual([len(pairs) for moment, pairs in house.store.toggles("sales")], [1, 3, 2, 3])
+        recovered = recover(house.disk.fall({name: 999 for name in house.disk.all_files()}), LITTLE)
+        self.assertEqual(state_of(recovered.store), state_of(house.store))
+        self.assertEqual(recovered.store.rows_of("sales", 3), [(2,), (6,), (8,), (9,)])
+
     def test_two_tables_and_a_book_of_both(self):
         shapes = Shapes([("t", [("a", "number", "n"), ("b", "number", "n")]), ("u", [("c", "word", "nw")])])
         house = House(shapes, {"n": Book("number", 4, [(3, 9), (5, 1)]), "nw": Book("word", 3)})

@@ -176,7 +176,7 @@ class RuleTest(unittest.TestCase):
         for rule in ((), ("swap",), ("swap", 0, 0), ("swap", 0, 1), ("Swap", 0), ("", 0), (0, "swap"), ("drop",),
                      ("list",), ("later",), ("later", "places", "places"), ("earlier",), ("passing",), ("size",),
                      ("passing", True, True), ("size", 8, 8), ("tell", 1), (None, 0), (True, 0), ("later", ["places"]),
-                     (("swap", 0), 0), ("open", "places"), ("swap", (0,)), (("swap",), 0)):
+                     (("swap", 0), 0), ["swap", 0], ["size", 8], "size", 5, ("open", "places"), ("swap", (0,)), (("swap",), 0)):
             self.refuse(plan, rule)
 
     def test_extra_openings_are_not_kept(self):
