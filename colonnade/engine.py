@@ -126,32 +126,32 @@ class Work:
         kept = []
         for block, places in self.blocks_at_hand(table):
             kept.extend(self._kept_of_block(block, places, tests, columns))
-        self.look([column for column in columns if column in self.opened["join"]], len(kept))
-        return self._opened(kept, "join")
+        opened = self.opened["join"]
+        self.look([column for column in columns if column in opened], len(kept))
+        return self._in_vectors(kept, lambda piece: opened_rows(piece, opened))
 
-    def _opened(self, rows, stage):
+    def _in_vectors(self, rows, change):
+        """Return what a function makes of the rows, which it is given in vectors."""
         found = []
         for piece in vectors(rows, self.plan.size):
-            found.extend(opened_rows(piece, self.opened[stage]))
+            found.extend(change(piece))
         return found
 
     def chosen_rows(self):
         """Return the joined rows for which the cross tests hold, as they come to the group."""
         tables = {table: self.kept_rows(table) for table in self.question.tables}
         joined = joined_tables(self.question, tables, self.closed["join"])
-        self.look(self.opened["cross"], len(joined))
+        crossed = self.opened["cross"]
+        self.look(crossed, len(joined))
         tests = [on_codes(test, self.closed["cross"]) for test in self.question.cross_tests()]
-        chosen = []
-        for piece in vectors(joined, self.plan.size):
-            chosen.extend(_held_rows(opened_rows(piece, self.opened["cross"]), tests))
-        self.look(self.opened["group"], len(chosen))
-        return self._opened(chosen, "group")
+        chosen = self._in_vectors(joined, lambda piece: _held_rows(opened_rows(piece, crossed), tests))
+        grouped = self.opened["group"]
+        self.look(grouped, len(chosen))
+        return self._in_vectors(chosen, lambda piece: opened_rows(piece, grouped))
 
     def _opened_results(self, results, stage):
-        found = []
-        for piece in vectors(results, self.plan.size):
-            found.extend(opened_results(piece, self.opened[stage]))
-        return found
+        opened = self.opened[stage]
+        return self._in_vectors(results, lambda piece: opened_results(piece, opened))
 
     def ordered(self):
         """Return the results as they stand behind the stage "order"."""

@@ -27,6 +27,15 @@ def shop_books(dice=None):
     return {"places": places, "money": money}
 
 
+def shop():
+    """Return a store with three sales in two blocks, of which the first one is struck, and a town that is struck."""
+    store = Store(SHOP, shop_books())
+    store.commit({"sales": [("rome", 5, 1), ("oslo", 7, 2)], "towns": [("rome", 9)]})
+    store.commit(None, {"sales": [0]})
+    store.commit({"sales": [("bonn", 5, 3)]}, {"towns": [0]})
+    return store
+
+
 def row_for(dice, shapes, table):
     """Return a random row."""
     domains = [shapes.domain_of_column(column) for column in shapes.columns_of(table)]

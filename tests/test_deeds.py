@@ -26,20 +26,11 @@ from colonnade.stores import Store
 from tests.asking import openings_for, question_for
 from tests.helpers import check_raises, check_unchanged, frozen
 from tests.histories import (
-    SHOP, Model, check_like, commit_for, deed_for, moments_for, other_book_for, shop_books, sizes_for, state_of,
+    SHOP, Model, check_like, commit_for, deed_for, moments_for, other_book_for, shop, shop_books, sizes_for, state_of,
     step_for, store_behind, whole_rows,
 )
 
 CODES = {"places": {0: 0, 1: 1, 3: 3}, "money": {3: 3, 5: 5, 6: 6}}
-
-
-def shop():
-    """Return a store with three sales in two blocks, of which the first one is struck, and a town that is struck."""
-    store = Store(SHOP, shop_books())
-    store.commit({"sales": [("rome", 5, 1), ("oslo", 7, 2)], "towns": [("rome", 9)]})
-    store.commit(None, {"sales": [0]})
-    store.commit({"sales": [("bonn", 5, 3)]}, {"towns": [0]})
-    return store
 
 
 class DeedTest(unittest.TestCase):

@@ -15,18 +15,9 @@ from colonnade.stretches import Stretches
 
 from tests.asking import question_for
 from tests.helpers import check_raises, check_unchanged
-from tests.histories import SHOP, Model, check_like, commit_for, shop_books, state_of, whole_rows
+from tests.histories import SHOP, Model, check_like, commit_for, shop, shop_books, state_of, whole_rows
 
 TINY = Shapes([("t", [("a", "number", "")]), ("u", [("w", "word", "words")])])
-
-
-def shop():
-    """Return a store with a few commits: two sales and a town, a strike, one sale more."""
-    store = Store(SHOP, shop_books())
-    store.commit({"sales": [("rome", 5, 1), ("oslo", 7, 2)], "towns": [("rome", 9)]})
-    store.commit(None, {"sales": [0]})
-    store.commit({"sales": [("bonn", 5, 3)]}, {"towns": [0]})
-    return store
 
 
 class NewStoreTest(unittest.TestCase):
