@@ -114,7 +114,7 @@ class House:
                 raise NoFile(name)
         wanted = list(names)
         if not names:
-            wanted = [name for name in [*self.files_now(), LOG] if not self._is_synced(name)]
+            wanted = [name for name in list(self.files_now()) + [LOG] if not self._is_synced(name)]
         for name in wanted:
             self.disk.sync(name)
 

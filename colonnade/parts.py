@@ -72,7 +72,7 @@ def book_cells(store):
     cells = {}
     for name in store.shapes.books:
         book = store.book_named(name)
-        cells[book_part(name)] = ["book", book.room, *entries_cells(book.entries)]
+        cells[book_part(name)] = ["book", book.room] + entries_cells(book.entries)
     return cells
 
 
