@@ -62,16 +62,21 @@ class Work:
         """Return the columns of a table that the question names, ascending."""
         return [name for name in self.question.columns_named() if self.question.shapes.table_of(name) == table]
 
+    def translated_tests(self, table):
+        """Return pairs of the columns of a scan test of a table and the test's translation."""
+        # A leaf that is translated to Fixed loses its column, which is read for the test all the same.
+        closed = self.closed["scan"]
+        return [(test.columns_used(), on_codes(test, closed)) for test in self.question.scan_tests(table)]
+
     def passing_tests(self, table):
         """Return pairs of a scan test's columns and its translation, for passing blocks by."""
         if not self.plan.passing:
             return []
-        tests = []
-        for test in self.question.scan_tests(table):
-            columns = test.columns_used()
-            if not any([column in self.opened["scan"] for column in columns]):
-                tests.append((columns, on_codes(test, self.closed["scan"])))
-        return tests
+        opened = self.opened["scan"]
+        return [
+            (columns, test) for columns, test in self.translated_tests(table)
+            if not any([column in opened for column in columns])
+        ]
 
     def blocks_at_hand(self, table):
         """Return the blocks with seen rows that are not passed by, and note those that are."""
@@ -111,8 +116,8 @@ class Work:
     def _kept_of_block(self, block, places, tests, columns):
         unread = list(columns)
         alive = [(place, {}) for place in places]
-        for test in tests:
-            wanted = [column for column in test.columns_used() if column in unread]
+        for test_columns, test in tests:
+            wanted = [column for column in test_columns if column in unread]
             alive = [(at, row) for at, row in self._read(block, wanted, alive) if test.holds(row)]
             if not alive:
                 return []
@@ -122,7 +127,7 @@ class Work:
     def kept_rows(self, table):
         """Return the rows of a table for which its scan tests hold, as they come to the join."""
         columns = self.named_columns(table)
-        tests = [on_codes(test, self.closed["scan"]) for test in self.question.scan_tests(table)]
+        tests = self.translated_tests(table)
         kept = []
         for block, places in self.blocks_at_hand(table):
             kept.extend(self._kept_of_block(block, places, tests, columns))

@@ -135,13 +135,19 @@ def question_for(dice, shapes=SHAPES, joined=2):
     return Question(shapes, tables, joins_for(dice, shapes, tables), tests, groups, tells, sorts, most, None)
 
 
-def scene_for(dice, shapes=SHAPES, relations=None, most=4):
-    """Return a scene of random rows, in random blocks and chains, some of them not seen."""
+def scene_for(dice, shapes=SHAPES, relations=None, most=4, lean=False):
+    """Return a scene of random rows, in random blocks and chains, some of them not seen.
+
+    The books of a lean scene have the values of its rows alone, as these came.
+    """
     rows = rows_for(dice, shapes, most)
     columns = [column for table in shapes.tables for column in shapes.columns_of(table)]
     chains = {column: dice.choice(CHAINS) for column in columns}
     unseen = {table: [at for at in range(len(own)) if dice.randint(0, 3) == 0] for table, own in rows.items()}
-    books = books_for(dice, shapes, relations)
+    if lean:
+        books = {name: Book(shapes.domain_of_book(name), 40) for name in shapes.books}
+    else:
+        books = books_for(dice, shapes, relations)
     return make_scene(shapes, books, rows, size=dice.randint(1, 4), chains=chains, unseen=unseen)
 
 

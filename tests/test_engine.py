@@ -6,9 +6,11 @@ from colonnade.books import Book
 from colonnade.coded import Block, CodedColumn, CodedTable, Scene, make_scene
 from colonnade.codedly import STAGES, coded_answer, stage_after
 from colonnade.engine import Outcome, at_most, unopened_rows, vectors, work
+from colonnade.filters import Compare
 from colonnade.needs import Needs
 from colonnade.plainly import plain_answer
 from colonnade.plans import Plan, plain_plan
+from colonnade.questions import Question
 from colonnade.reading import read_question
 from colonnade.shapes import Shapes
 from colonnade.stretches import Stretches
@@ -334,6 +336,79 @@ class CountsByHandTest(unittest.TestCase):
                 self.assertEqual(outcome.cells_read, 3 if "shops" in text else 0)
 
 
+class LostColumnsTest(unittest.TestCase):
+    """Tests whose translations name fewer columns than they do themselves; all written plainly."""
+
+    def test_a_book_without_greater_values(self):
+        shapes = Shapes([("t", [("c", "number", "p"), ("d", "number", "")])])
+        book = Book("number", 9, [(3, 1), (4, 2)])
+        scene = make_scene(shapes, {"p": book}, {"t": [(3, 5), (4, 6)]})
+        for tests, tell, cells in (([Compare("c", ">", 7)], ("column", "d"), 2),
+                                   ([Compare("c", "<", 7), Compare("d", "=", 0)], ("count", ""), 4)):
+            question = Question(shapes, ["t"], [], tests, [], [tell], [], None, None)
+            for stage in STAGES:
+                outcome = work(Plan(question, {"p": stage}, passing=False), scene)
+                self.assertEqual((outcome.rows, outcome.cells_read, outcome.passed), ([], cells, []))
+                self.assertEqual(outcome.looks, {"p": 2 if stage == "scan" else 0})
+
+    def test_each_sign_and_choices(self):
+        # The book has no value of these tests, so that each of them is always or never so on codes.
+        for test in ("city = 'pisa'", "city > 'turin'", "city >= 'turin'", "city in ('pisa', 'turin')",
+                     "not city <> 'pisa'", "not city <= 'turin'", "not city < 'turin'",
+                     "city = 'pisa' or city = 'turin'"):
+            text = f"from sales where ({test}) and price > 0 tell day"
+            self.assertEqual(counted(text, small_scene(), places="tell", days="tell"),
+                             ([], 5, {"days": 0, "places": 0}, []), test)
+        for test in ("city <> 'pisa'", "city <= 'turin'", "city < 'turin'", "not city in ('pisa', 'turin')",
+                     "city < 'turin' or city = 'pisa'"):
+            text = f"from sales where ({test}) and price > 99 tell day"
+            self.assertEqual(counted(text, small_scene(), places="tell", days="tell"),
+                             ([], 10, {"days": 0, "places": 0}, []), test)
+
+    def test_parts_of_a_test(self):
+        # Both columns of the test are read before it is tried, and none behind it.
+        for test in ("city = 'pisa' or price > 99", "price > 99 or city = 'pisa'",
+                     "not (city <> 'pisa' or price < 99)"):
+            self.assertEqual(counted(f"from sales where {test} tell day", small_scene(), places="tell", days="tell"),
+                             ([], 5 + 5, {"days": 0, "places": 0}, []), test)
+
+    def test_no_cell_is_read_twice(self):
+        text = "from sales where city < 'turin' and city <> 'pisa' and price > 35 tell city"
+        self.assertEqual(counted(text, small_scene(), places="tell"),
+                         ([("oslo",), ("bonn",)], 10, {"places": 2}, []))
+
+    def test_looks_at_another_column_of_the_test(self):
+        # The day is opened at the scan and looked at for all rows, the city is not looked at.
+        text = "from sales where city = 'pisa' or day > 9 tell price"
+        self.assertEqual(counted(text, small_scene(), places="tell", days="scan"),
+                         ([], 10, {"days": 5, "places": 0}, []))
+
+    def test_each_block_and_no_block_without_seen_rows(self):
+        text = "from sales where city = 'pisa' tell price"
+        for told, cells in (({"unseen": {"sales": [0, 1]}}, 3), ({"size": 1}, 5), ({"size": 999}, 5)):
+            self.assertEqual(counted(text, small_scene(**told), places="join"), ([], cells, {"places": 0}, []))
+
+    def test_passed_by_and_not(self):
+        # A test that is never so on codes lets all blocks be passed by, one that is always so none.
+        text = "from sales where city = 'pisa' and price > 0 tell day"
+        self.assertEqual(counted(text, small_scene(), passing=True, places="tell", days="tell"),
+                         ([], 0, {"days": 0, "places": 0}, [("sales", 0), ("sales", 1), ("sales", 2)]))
+        text = "from sales where city <> 'pisa' and price > 30 and price < 50 tell day"
+        self.assertEqual(counted(text, small_scene(), passing=True, places="tell", days="tell"),
+                         ([], 2 * 4, {"days": 0, "places": 0}, [("sales", 2)]))
+
+    def test_cells_of_chains(self):
+        scene = small_scene(size=5, chains={"city": "runs pick lanes"})
+        cells = len(scene.table_named("sales").blocks[0].column_named("city").cells)
+        text = "from sales where city = 'pisa' tell price"
+        self.assertEqual(counted(text, scene, places="tell"), ([], cells, {"places": 0}, []))
+
+    def test_with_a_join(self):
+        text = "from sales join shops on city = town where town = 'pisa' tell day"
+        self.assertEqual(counted(text, small_scene(), places="tell", days="tell"),
+                         ([], 5 + 5 + 3, {"days": 0, "places": 0}, []))
+
+
 class WorkTest(unittest.TestCase):
     def check(self, plan, scene):
         """Check a plan against the coded answer and the told counts, and return its outcome."""
@@ -359,6 +434,27 @@ class WorkTest(unittest.TestCase):
             openings = openings_for(dice, question)
             plan = Plan(question, openings, passing=dice.randint(0, 1) == 1, size=dice.choice((1, 2, 3, 8, 999)))
             self.check(plan, scene)
+
+    def test_random_plans_with_books_that_lack_values(self):
+        dice = random.Random(38)
+        lost = 0
+        for _ in range(250):
+            question, scene = question_for(dice), scene_for(dice, lean=True)
+            plan = Plan(question, openings_for(dice, question), passing=dice.randint(0, 3) == 0)
+            self.check(plan, scene)
+            told = Told(plan, scene)
+            for test in [test for table in question.tables for test in question.scan_tests(table)]:
+                translated = on_codes(test, told.closed(test, "scan"))
+                lost += translated.columns_used() != test.columns_used()
+        self.assertGreater(lost, 20)
+
+    def test_openings_in_time_on_books_that_lack_values(self):
+        dice = random.Random(39)
+        for _ in range(120):
+            question, scene = question_for(dice), scene_for(dice, lean=True)
+            openings = openings_in_time(dice, question, scene.relations())
+            outcome = self.check(Plan(question, openings, passing=dice.randint(0, 1) == 1), scene)
+            self.assertEqual(outcome.rows, plain_answer(question, scene.all_rows()))
 
     def test_openings_in_time_give_the_plain_answer(self):
         dice = random.Random(32)
